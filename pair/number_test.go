@@ -1,0 +1,106 @@
+package pair_test
+
+import (
+	"math"
+	"math/big"
+
+	"perigee/api"
+)
+
+const (
+	most = 1<<64 - 1
+	half = 1 << 63 // behind the point
+)
+
+var (
+	least    = api.Fix{Hi: math.MinInt64}
+	lowest   = api.Fix{Hi: math.MinInt64, Lo: 1}
+	greatest = api.Fix{Hi: math.MaxInt64, Lo: most}
+	nought   = api.Fix{}
+	part     = of(0, 1)
+	below    = of(-1, most)
+)
+
+func of(hi int64, lo uint64) api.Fix { return api.Fix{Hi: hi, Lo: lo} }
+
+func n(whole int64) api.Fix { return of(whole, 0) }
+
+func at(x, y api.Fix) api.Vec { return api.Vec{X: x, Y: y} }
+
+func v(x, y int64) api.Vec { return at(n(x), n(y)) }
+
+// power is 2^n.
+func power(n uint) *big.Int { return new(big.Int).Lsh(big.NewInt(1), n) }
+
+// units are a, in parts of 2^64, as a number without limits.
+func units(a api.Fix) *big.Int {
+	n := new(big.Int).Lsh(big.NewInt(a.Hi), 64)
+	return n.Add(n, new(big.Int).SetUint64(a.Lo))
+}
+
+// ofUnits is n as a number, and whether it may be: none may from 2^63 on, on either side.
+func ofUnits(n *big.Int) (api.Fix, bool) {
+	if n.CmpAbs(power(127)) >= 0 {
+		return nought, false
+	}
+	hi := new(big.Int).Rsh(n, 64)
+	lo := new(big.Int).Sub(n, new(big.Int).Lsh(hi, 64))
+	return of(hi.Int64(), lo.Uint64()), true
+}
+
+func neg(a api.Fix) api.Fix {
+	turned, _ := ofUnits(new(big.Int).Neg(units(a)))
+	return turned
+}
+
+func about(a api.Vec) api.Vec { return at(neg(a.X), neg(a.Y)) }
+
+// near is the whole number nearest to a over b: where the rest is half of b, or more, one farther from nought.
+func near(a, b *big.Int) *big.Int {
+	q, r := new(big.Int).QuoRem(a, b, new(big.Int))
+	if r.Lsh(r, 1).CmpAbs(b) >= 0 {
+		q.Add(q, big.NewInt(int64(a.Sign()*b.Sign())))
+	}
+	return q
+}
+
+// words are a row of numbers that look like any.
+type words uint64
+
+func (w *words) word() uint64 {
+	*w += 0x9e3779b97f4a7c15
+	n := uint64(*w)
+	n = (n ^ n>>30) * 0xbf58476d1ce4e5b9
+	n = (n ^ n>>27) * 0x94d049bb133111eb
+	return n ^ n>>31
+}
+
+// fix is a number that may be, of at most that many bits, of any length and of either sign.
+func (w *words) fix(bits uint64) api.Fix {
+	n := new(big.Int).SetUint64(w.word())
+	n.Lsh(n, 64).Or(n, new(big.Int).SetUint64(w.word()))
+	n.Rsh(n, uint(128-bits+w.word()%bits))
+	if w.word()%2 == 0 {
+		n.Neg(n)
+	}
+	a, _ := ofUnits(n)
+	return a
+}
+
+// ends are numbers that may be, at an edge or next to one.
+func ends() []api.Fix {
+	return []api.Fix{nought, part, below, of(0, 1<<32), of(-1, half), n(1), n(-1), of(1, 1), n(2), n(-3), n(1 << 20), n(1 << 31), n(0xb504f333), n(-0xb504f333), n(-1 << 32), n(1 << 62), greatest, lowest}
+}
+
+// around calls each with the numbers that may be of n, and of what is next to it, on both sides of nought.
+func around(n *big.Int, each func(a api.Fix)) {
+	for i := int64(-2); i <= 2; i++ {
+		m := new(big.Int).Add(n, big.NewInt(i))
+		for range 2 {
+			if a, ok := ofUnits(m); ok {
+				each(a)
+			}
+			m.Neg(m)
+		}
+	}
+}
